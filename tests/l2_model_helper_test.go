@@ -242,6 +242,12 @@ func madeUpModel(r *rand.Rand) impl.Model {
 			m.Nodes = append(m.Nodes, madeUpNode(r, m.Nodes, left)...)
 		}
 	}
+	addEntries(r, &m)
+	return m
+}
+
+// addEntries makes up inits, nexts, bads and holds of the nodes of a model.
+func addEntries(r *rand.Rand, m *impl.Model) {
 	free := freeNodes(m.Nodes)
 	for i, n := range m.Nodes {
 		if n.Kind == impl.OpState {
@@ -257,7 +263,6 @@ func madeUpModel(r *rand.Rand) impl.Model {
 	}
 	r.Shuffle(len(m.Inits), func(i, j int) { m.Inits[i], m.Inits[j] = m.Inits[j], m.Inits[i] })
 	r.Shuffle(len(m.Bads), func(i, j int) { m.Bads[i], m.Bads[j] = m.Bads[j], m.Bads[i] })
-	return m
 }
 
 // madeUpNode is a node that may stand behind others, or none, if the one that was tried may not.
