@@ -57,6 +57,15 @@ func (l table) toggled(n int) table {
 	return other
 }
 
+// halves are the sets of the numbers without bit 0, and of those with it, each number without that bit.
+func (l table) halves() [2]table {
+	var halves [2]table
+	for n := range l {
+		halves[n%2] = append(halves[n%2], l[n])
+	}
+	return halves
+}
+
 // maker lays down a set's diagram from what the numbers say; a place is kept by all that can be met from it.
 type maker struct {
 	nodes  []impl.BddNode
@@ -78,10 +87,7 @@ func (m *maker) place(v int, l table) int {
 	if at, ok := m.places[string(l)]; ok {
 		return at
 	}
-	var halves [2]table
-	for n := range l {
-		halves[n%2] = append(halves[n%2], l[n])
-	}
+	halves := l.halves()
 	if bytes.Equal(halves[0], halves[1]) {
 		return m.place(v+1, halves[0])
 	}
